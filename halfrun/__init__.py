@@ -1,0 +1,1 @@
+"""Halfrun: programs worked out as far as some inputs lead."""
