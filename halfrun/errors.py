@@ -42,3 +42,20 @@ class NotKept(HalfError):
 
 class NoText(HalfError):
     """A text is not the text of a program."""
+
+
+def refuse(word):
+    """Raise the refusal that has that word."""
+    match word:
+        case "NoNumber":
+            raise NoNumber("a refuse is come to")
+        case "NoList":
+            raise NoList("a refuse is come to")
+        case "NoFirst":
+            raise NoFirst("a refuse is come to")
+        case "NoDown":
+            raise NoDown("a refuse is come to")
+        case "ByNought":
+            raise ByNought("a refuse is come to")
+        case "TooGreat":
+            raise TooGreat("a refuse is come to")

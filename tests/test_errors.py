@@ -31,6 +31,12 @@ class ErrorsTest(unittest.TestCase):
     def test_six_have_words(self):
         self.assertEqual(sorted(errors.WORDS), sorted(NAMES[:6]))
 
+    def test_each_word_is_raised_as_its_class(self):
+        for word in errors.WORDS:
+            with self.assertRaises(errors.HalfError) as caught:
+                errors.refuse(word)
+            self.assertIs(type(caught.exception), getattr(errors, word))
+
 
 if __name__ == "__main__":
     unittest.main()

@@ -13,6 +13,10 @@ FUNCTIONS = {
     "values": {"is_value": ["thing"], "weight": ["value"]},
     "operations": {"done": ["operation", "values"]},
     "programs": {"is_name": ["text"], "is_good": ["program"]},
+    "running": {"run": ["program", "inputs", "most"]},
+    "sortings": {"keeps": ["program", "sorting"]},
+    "halving": {"left_over": ["program", "sorting", "known"], "cases": ["program", "sorting", "known"]},
+    "texts": {"shown": ["program"], "read": ["text"]},
 }
 
 
